@@ -1,0 +1,1 @@
+"""A year's ledger turned into the next one by a script."""
