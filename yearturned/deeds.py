@@ -24,11 +24,11 @@ FORMS = {
 WRITE = "write "
 
 
-def check_deeds(deeds):
-    """NoDeed unless this is a list of deeds, whatever lines there are."""
+def check_deeds(deeds, first=0):
+    """NoDeed unless this is a list of deeds, whatever lines there are; first is the index of its first one."""
     if not isinstance(deeds, list):
-        raise NoDeed(0)
-    for index, deed in enumerate(deeds):
+        raise NoDeed(first)
+    for index, deed in enumerate(deeds, start=first):
         if not is_deed(deed):
             raise NoDeed(index)
 

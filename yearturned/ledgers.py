@@ -20,6 +20,14 @@ class OldLine:
         """The line as callers see it."""
         return (self.number, self.label, self.start, self.moves, self.tie, self.standing)
 
+    def copied(self):
+        """The same line once more."""
+        line = OldLine(self.number, self.label, self.start)
+        line.moves = self.moves
+        line.tie = self.tie
+        line.standing = self.standing
+        return line
+
 
 class NewLine:
     """A line of the new ledger; the keys of typed are the fields that people wrote."""
@@ -36,6 +44,14 @@ class NewLine:
     def row(self):
         """The line as callers see it."""
         return (self.number, self.label, self.start, self.moves, self.tie, self.source)
+
+    def copied(self):
+        """The same line once more."""
+        line = NewLine(self.number, self.label, self.start, self.source)
+        line.moves = self.moves
+        line.tie = self.tie
+        line.typed = dict(self.typed)
+        return line
 
 
 class Ledgers:
@@ -89,3 +105,12 @@ class Ledgers:
     def new_rows(self):
         """The lines of the new ledger as callers see them."""
         return [line.row() for line in self.new_lines.values()]
+
+    def copied(self):
+        """The same ledgers once more, with lines of their own."""
+        ledgers = Ledgers()
+        ledgers.old_lines = {number: line.copied() for number, line in self.old_lines.items()}
+        ledgers.new_lines = {number: line.copied() for number, line in self.new_lines.items()}
+        ledgers.made_lines = {source: ledgers.new_lines[line.number] for source, line in self.made_lines.items()}
+        ledgers.last_new = self.last_new
+        return ledgers
